@@ -69,11 +69,11 @@ func same[T comparable](a, b row[T]) bool {
 // hold: a line, held against a row in all that is told of one line.
 func hold[T comparable](t *testing.T, l line.Line[T], w row[T]) {
 	t.Helper()
-	first, last, any := 0, 0, len(w.list) > 0
-	if any {
+	first, last, some := 0, 0, len(w.list) > 0
+	if some {
 		first, last = w.from, w.from+len(w.list)-1
 	}
-	if a, b, ok := l.Span(); a != first || b != last || ok != any {
+	if a, b, ok := l.Span(); a != first || b != last || ok != some {
 		t.Fatalf("%v: Span %d, %d, %v", w, a, b, ok)
 	}
 	for x := first - 3; x <= last+3; x++ {
